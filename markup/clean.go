@@ -1,4 +1,4 @@
-// Package markup reads markup: it cleans texts and cuts them into tokens.
+// Package markup knows how markup is spelt: it cleans texts, cuts them into tokens, and writes texts and values so that they are read again.
 package markup
 
 import (

@@ -76,7 +76,7 @@ func beginsMarkup(s string) bool {
 
 // endsRaw tells whether a < with s behind it is the end of a raw element. The name alone is none at the end of the markup.
 func endsRaw(s string) bool {
-	const name = "/" + rawName
+	const name = "/" + RawName
 	return len(s) > len(name) && lower(s[:len(name)]) == name && strings.IndexByte(nameEnds, s[len(name)]) >= 0
 }
 

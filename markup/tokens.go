@@ -2,8 +2,8 @@ package markup
 
 import "thatch/api"
 
-// rawName is the element behind whose beginning all is text.
-const rawName = "code"
+// RawName is the element behind whose beginning all is text.
+const RawName = "code"
 
 // The bytes at which the parts of a tag end.
 const (
@@ -50,7 +50,7 @@ ending:
 beginning:
 	c.at += len("<")
 	c.cutTag(api.Element)
-	if c.tag.Name == rawName {
+	if c.tag.Name == RawName {
 		goto raw
 	}
 	goto content

@@ -2,8 +2,11 @@
 package thatch
 
 import (
+	"strings"
+
 	"thatch/api"
 	"thatch/markup"
+	"thatch/tree"
 )
 
 // Clean repairs a text (P3).
@@ -13,13 +16,40 @@ func Clean(s string) string { return markup.Clean(s) }
 func Tokens(s string) []api.Token { return markup.Tokens(s) }
 
 // Doc keeps nodes.
-type Doc struct{}
+type Doc struct {
+	nodes tree.Nodes
+}
 
 // New makes a document (P5).
-func New() *Doc { return nil }
+func New() *Doc { return &Doc{} }
+
+// has tells whether there is a node of that number; a nil document has none.
+func (d *Doc) has(h int) bool {
+	return d != nil && d.nodes.Has(h)
+}
+
+// isName tells whether an element may be made with that name.
+func isName(name string) bool {
+	for _, letter := range name {
+		if letter < 'a' || letter > 'z' {
+			return false
+		}
+	}
+	return 1 <= len(name) && len(name) <= api.MaxName
+}
 
 // Create makes an element (P6).
-func (d *Doc) Create(name string) (int, api.Errno) { return 0, api.OK }
+func (d *Doc) Create(name string) (int, api.Errno) {
+	switch {
+	case d == nil:
+		return 0, api.ErrNode
+	case !isName(name):
+		return 0, api.ErrName
+	case !d.nodes.HasRoom(1):
+		return 0, api.ErrFull
+	}
+	return d.nodes.Add(api.Node{Kind: api.Element, Name: strings.Clone(name)}), api.OK
+}
 
 // Text makes a text (P6).
 func (d *Doc) Text(data string) (int, api.Errno) { return 0, api.OK }
@@ -28,13 +58,31 @@ func (d *Doc) Text(data string) (int, api.Errno) { return 0, api.OK }
 func (d *Doc) Comment(data string) (int, api.Errno) { return 0, api.OK }
 
 // Node tells a node (P7).
-func (d *Doc) Node(h int) (api.Node, api.Errno) { return api.Node{}, api.OK }
+func (d *Doc) Node(h int) (api.Node, api.Errno) {
+	if !d.has(h) {
+		return api.Node{}, api.ErrNode
+	}
+	return d.nodes.Node(h), api.OK
+}
 
 // Kids tells a node's children (P7).
-func (d *Doc) Kids(h int) ([]int, api.Errno) { return nil, api.OK }
+func (d *Doc) Kids(h int) ([]int, api.Errno) {
+	if !d.has(h) {
+		return nil, api.ErrNode
+	}
+	return d.nodes.Kids(h), api.OK
+}
 
 // Attrs tells an element's attributes (P7).
-func (d *Doc) Attrs(h int) ([]api.Attr, api.Errno) { return nil, api.OK }
+func (d *Doc) Attrs(h int) ([]api.Attr, api.Errno) {
+	switch {
+	case !d.has(h):
+		return nil, api.ErrNode
+	case d.nodes.Node(h).Kind != api.Element:
+		return nil, api.ErrKind
+	}
+	return d.nodes.Attrs(h), api.OK
+}
 
 // Insert makes a node a child of another one (P8).
 func (d *Doc) Insert(parent int, child int, before int) api.Errno { return api.OK }
@@ -46,10 +94,27 @@ func (d *Doc) Remove(h int) api.Errno { return api.OK }
 func (d *Doc) SetAttr(h int, name string, value string) api.Errno { return api.OK }
 
 // Inner writes what a node holds (P10).
-func (d *Doc) Inner(h int) (string, api.Errno) { return "", api.OK }
+func (d *Doc) Inner(h int) (string, api.Errno) {
+	if !d.has(h) {
+		return "", api.ErrNode
+	}
+	return d.nodes.Inner(h), api.OK
+}
 
 // Inners writes what several nodes hold (P10).
 func (d *Doc) Inners(l ...int) ([]string, api.Errno) { return nil, api.OK }
 
 // SetInner makes an element hold what markup says (P11).
-func (d *Doc) SetInner(h int, markup string) api.Errno { return api.OK }
+func (d *Doc) SetInner(h int, markup string) api.Errno {
+	switch {
+	case !d.has(h):
+		return api.ErrNode
+	case !d.nodes.MayHold(h):
+		return api.ErrKind
+	case len(markup) > api.MaxText:
+		return api.ErrLong
+	case !d.nodes.SetInner(h, markup):
+		return api.ErrFull
+	}
+	return api.OK
+}
