@@ -34,3 +34,12 @@ func referenceTo(letter rune) string {
 	}
 	return string(letter)
 }
+
+// IsAttrName tells whether Tokens reads a name, written as an attribute's, again as it is.
+func IsAttrName(name string) bool {
+	if name == "" || name != Clean(name) || name != lower(name) {
+		return false
+	}
+	// A = is part of a name where it begins it, and ends it elsewhere.
+	return strings.IndexByte(nameEnds, name[0]) < 0 && !strings.ContainsAny(name[1:], attrEnds)
+}

@@ -1,7 +1,11 @@
 // Package tree keeps nodes by their numbers, makes trees of what markup says, and writes them as markup.
 package tree
 
-import "thatch/api"
+import (
+	"slices"
+
+	"thatch/api"
+)
 
 // node is a node with what it holds. What an element does not have is empty.
 type node struct {
@@ -51,10 +55,25 @@ func (t *Nodes) Attrs(h int) []api.Attr {
 	return append([]api.Attr(nil), t.at(h).attrs...)
 }
 
+// SetAttr gives an attribute of an element that is there a value; a new one is the last.
+func (t *Nodes) SetAttr(h int, name string, value string) {
+	n := t.at(h)
+	at := slices.IndexFunc(n.attrs, func(a api.Attr) bool { return a.Name == name })
+	if at < 0 {
+		n.attrs = append(n.attrs, api.Attr{Name: name, Value: value})
+		return
+	}
+	n.attrs[at].Value = value
+}
+
+// IsElement tells whether a node that is there is an element.
+func (t *Nodes) IsElement(h int) bool {
+	return t.at(h).Kind == api.Element
+}
+
 // MayHold tells whether a node that is there may have children.
 func (t *Nodes) MayHold(h int) bool {
-	n := t.at(h)
-	return n.Kind == api.Element && !isVoid(n.Name)
+	return t.IsElement(h) && !isVoid(t.at(h).Name)
 }
 
 // SetInner makes an element that may hold children hold what text says as markup. If there is no room for the new nodes, it tells false, and nothing has changed.
